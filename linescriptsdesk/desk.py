@@ -1,11 +1,16 @@
 """The object that the calls are on, and what they answer."""
 
 from linescriptsdesk.commands import read_commands
-from linescriptsdesk.faults import Fault, NoScript, NoSuchLine
+from linescriptsdesk.faults import Fault, NoScript, NoSuchLine, NotSoOften
 from linescriptsdesk.forms import one_form
 from linescriptsdesk.letters import bytes_of
-from linescriptsdesk.runs import coming_lines, run_script
+from linescriptsdesk.repeats import MOST_RUNS, run_again, runs_to_rest
+from linescriptsdesk.runs import coming_letters, coming_lines, run_script
 from linescriptsdesk.texts import read_text, text_bytes
+
+COMES_AS_IT_WAS = 0
+COMES_OTHERWISE = 1
+DOES_NOT_COME = 2
 
 
 class Desk:
@@ -33,9 +38,12 @@ def answer_shown(desk):
 
 
 def answer_run(desk, row):
-    coming = coming_lines(run_told(desk, row))
-    told = text_bytes([line.letters for line in coming])
-    return [len(coming), len(told)] + told
+    return lines_answer(coming_letters(run_told(desk, row)))
+
+
+def lines_answer(lines):
+    told = text_bytes(lines)
+    return [len(lines), len(told)] + told
 
 
 def answer_origins(desk, row):
@@ -53,6 +61,40 @@ def answer_trace(desk, k, row):
         raise NoSuchLine()
     done = run.lines[k - 1].done
     return [len(done)] + done
+
+
+def answer_held(desk, row):
+    held = bytes_of(run_told(desk, row).held)
+    return [len(held)] + held
+
+
+def answer_touched(desk, row):
+    run = run_told(desk, row)
+    answer = [len(run.lines)]
+    for line in run.lines:
+        answer.extend([touch_of(line), len(line.ahead), len(line.behind)])
+    return answer
+
+
+def touch_of(line):
+    if line.is_deleted:
+        return DOES_NOT_COME
+    return COMES_AS_IT_WAS if line.letters == line.told_letters else COMES_OTHERWISE
+
+
+# How often is looked at behind the text, and ahead of any run.
+def answer_again(desk, n, row):
+    commands = desk.held_commands()
+    text = read_text(row)
+    if n < 0 or n > MOST_RUNS:
+        raise NotSoOften()
+    return lines_answer(run_again(commands, text, n))
+
+
+def answer_rest(desk, row):
+    commands = desk.held_commands()
+    runs = runs_to_rest(commands, read_text(row))
+    return [0] if runs is None else [1, runs]
 
 
 # The refusals stand in their order here: no script, no text, too much.

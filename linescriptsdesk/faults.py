@@ -21,3 +21,7 @@ class TooMuch(Exception):
 
 class NoSuchLine(Exception):
     pass
+
+
+class NotSoOften(Exception):
+    pass

@@ -19,6 +19,7 @@ class Line:
     def __init__(self, number, is_last, letters):
         self.number = number
         self.is_last = is_last
+        self.told_letters = letters
         self.letters = letters
         self.ahead = []
         self.behind = []
@@ -53,6 +54,10 @@ def coming_lines(run):
             coming.append(Coming(line.letters, line.number, -1))
         coming.extend(line.behind)
     return coming
+
+
+def coming_letters(run):
+    return [line.letters for line in coming_lines(run)]
 
 
 def run_line(run, line, commands):

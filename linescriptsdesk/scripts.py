@@ -1,13 +1,18 @@
 """A list of calls, answered one behind another."""
 
-from linescriptsdesk.desk import Desk, answer_load, answer_origins, answer_run, answer_shown, answer_trace
-from linescriptsdesk.faults import NoScript, NoSuchLine, NotAText, TooMuch
+from linescriptsdesk.desk import Desk, answer_again, answer_held, answer_load, answer_origins
+from linescriptsdesk.desk import answer_rest, answer_run, answer_shown, answer_touched, answer_trace
+from linescriptsdesk.faults import NoScript, NoSuchLine, NotAText, NotSoOften, TooMuch
 
 LOAD = 0
 SHOWN = 1
 RUN = 2
 ORIGINS = 3
 TRACE = 4
+HELD = 5
+TOUCHED = 6
+AGAIN = 7
+REST = 8
 
 
 class CallReader:
@@ -52,6 +57,8 @@ def answer_or_refusal(desk, reader):
         return [-7]
     except NoSuchLine:
         return [-3]
+    except NotSoOften:
+        return [-3]
 
 
 # A call is taken whole ahead of any refusal, so that the next one is found.
@@ -68,4 +75,13 @@ def answer_call(desk, reader):
     if call == TRACE:
         k = reader.take_whole()
         return answer_trace(desk, k, reader.take_row())
+    if call == HELD:
+        return answer_held(desk, reader.take_row())
+    if call == TOUCHED:
+        return answer_touched(desk, reader.take_row())
+    if call == AGAIN:
+        n = reader.take_whole()
+        return answer_again(desk, n, reader.take_row())
+    if call == REST:
+        return answer_rest(desk, reader.take_row())
     raise ValueError(f"no call has the number {call}")

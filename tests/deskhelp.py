@@ -37,6 +37,22 @@ def trace(k, text):
     return [4, k] + row(text)
 
 
+def held(text):
+    return [5] + row(text)
+
+
+def touched(text):
+    return [6] + row(text)
+
+
+def again(n, text):
+    return [7, n] + row(text)
+
+
+def rest(text):
+    return [8] + row(text)
+
+
 def told(*calls):
     """The answers to these calls on one object, each a list."""
     numbers = answers([number for call in calls for number in call])
@@ -91,6 +107,27 @@ def done(script, k, *lines):
     answer = after_load(script, trace(k, as_text(lines)))
     assert answer[0] == len(answer) - 1
     return answer[1:]
+
+
+def held_at_end(script, *lines):
+    answer = after_load(script, held(as_text(lines)))
+    assert answer[0] == len(answer) - 1
+    return "".join(chr(byte) for byte in answer[1:])
+
+
+def touches(script, *lines):
+    """For each line: whether it comes, how many are put ahead, and how many behind."""
+    answer = after_load(script, touched(as_text(lines)))
+    assert len(answer) == 1 + 3 * answer[0]
+    return list(zip(answer[1::3], answer[2::3], answer[3::3]))
+
+
+def coming_again(script, n, *lines):
+    return lines_of(after_load(script, again(n, as_text(lines))))
+
+
+def at_rest(script, *lines):
+    return after_load(script, rest(as_text(lines)))
 
 
 def form(script):

@@ -2,7 +2,7 @@
 
 import unittest
 
-from tests.deskhelp import SCRIPT, form, load, loaded, origins, run, shown, told, trace
+from tests.deskhelp import SCRIPT, again, form, held, load, loaded, origins, rest, run, shown, told, touched, trace
 from tests.test_grammar import ADDRESSES, DEEDS
 
 TEXTS = ("", "\n", "w\n", "a\nw\naw\n", "wawa\n\na\nb\nw\n")
@@ -51,9 +51,11 @@ class ReadAgain(unittest.TestCase):
         calls = [shown()]
         for text in TEXTS:
             calls += [run(text), origins(text), trace(1, text), trace(2, text), trace(3, text)]
-        once = told(load(script), *calls)
-        again = told(load(form(script)), *calls)
-        self.assertEqual(again, once, script)
+            calls += [held(text), touched(text), again(2, text), again(10, text), rest(text)]
+        halves = calls[:len(calls) // 2], calls[len(calls) // 2:]
+        for half in halves:
+            once = told(load(script), *half)
+            self.assertEqual(told(load(form(script)), *half), once, script)
 
     def test_every_address_and_deed(self):
         for address in ADDRESSES:

@@ -2,9 +2,9 @@
 
 import unittest
 
-from tests.deskhelp import after_load, load, origins, run, told, trace
+from tests.deskhelp import after_load, again, held, load, origins, rest, run, told, touched, trace
 
-TEXT_CALLS = (run, origins, lambda text: trace(1, text))
+TEXT_CALLS = (run, origins, lambda text: trace(1, text), held, touched, lambda text: again(0, text), rest)
 
 
 class Told(unittest.TestCase):
@@ -12,6 +12,7 @@ class Told(unittest.TestCase):
         count = text.count("\n")
         answer = after_load("", run(text))
         self.assertEqual(answer, [count, len(text)] + [ord(sign) for sign in text])
+        self.assertEqual(after_load("", again(0, text)), answer)
 
     def test_no_line(self):
         self.as_it_is("")
